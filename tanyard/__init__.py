@@ -1,0 +1,1 @@
+"""Countercurrent exchange between liquor and lots."""
