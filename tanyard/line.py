@@ -1,6 +1,6 @@
 """The line of pits: its amounts, its strengths and its totals."""
 
-from tanyard.ratio import lowest, minus, mixed, plus, times
+from tanyard.ratio import lowest, minus, mixed, plus, times, total
 
 
 class Line:
@@ -27,11 +27,25 @@ class Line:
         discharge_strength = self.strengths[0]
         brought = plus(times(self.liquor, self.fresh), times(self.lot, self.raw))
         self.supplied = plus(self.supplied, brought)
-        self.tanned = plus(self.tanned, times(self.lot, lot_strength))
-        self.discharged = plus(self.discharged, times(self.liquor, discharge_strength))
+        self.let_go(lot_strength, discharge_strength)
         self.strengths = self.strengths_after_day(self.strengths)
         self.days = self.days + 1
         return [lot_strength, discharge_strength]
+
+    def let_go(self, lot_strength, discharge_strength):
+        self.tanned = plus(self.tanned, times(self.lot, lot_strength))
+        self.discharged = plus(self.discharged, times(self.liquor, discharge_strength))
+
+    def put_pit_behind(self):
+        self.strengths = self.strengths + [lowest(0, 1)]
+
+    def take_pit_out(self, pit):
+        strength = self.strengths[pit]
+        self.let_go(strength, strength)
+        self.strengths = self.strengths[:pit] + self.strengths[pit + 1:]
+
+    def pits_content(self):
+        return times(self.liquor + self.lot, total(self.strengths))
 
     def strengths_after_day(self, strengths):
         from_next = strengths[1:] + [self.fresh]
@@ -40,6 +54,12 @@ class Line:
             mixed(self.liquor, liquor_strength, self.lot, lot_strength)
             for liquor_strength, lot_strength in zip(from_next, from_previous)
         ]
+
+    def strengths_after_days(self, count):
+        strengths = list(self.strengths)
+        for day in range(count):
+            strengths = self.strengths_after_day(strengths)
+        return strengths
 
 
 class Yard:

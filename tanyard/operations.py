@@ -1,9 +1,10 @@
 """The calls: each takes the yard and the call's arguments, and gives back its answer."""
 
 from tanyard.line import Line
-from tanyard.ratio import lowest
-from tanyard.refusals import ArgumentOutsideLimits, LineAtLimit, NoLine, NoSuchPit
-from tanyard.steady import steady_strengths
+from tanyard.portions import lot_after_portions
+from tanyard.ratio import at_least, lowest, minus
+from tanyard.refusals import ArgumentOutsideLimits, LineAtLimit, NoLine, NoSuchPit, OnlyPit, StrengthNotReached
+from tanyard.steady import deviation_from_steady, steady_discharge_strength, steady_lot_strength, steady_strengths
 
 CREATE = 0
 MOST_PITS = 6
@@ -35,11 +36,15 @@ def check_days_left(line, count):
         raise LineAtLimit()
 
 
-def with_fractions(first, fractions):
-    answer = [first]
+def numbers_of(fractions):
+    numbers = []
     for fraction in fractions:
-        answer.extend(fraction)
-    return answer
+        numbers.extend(fraction)
+    return numbers
+
+
+def with_fractions(first, fractions):
+    return [first] + numbers_of(fractions)
 
 
 def strengths_answer(strengths):
@@ -108,13 +113,82 @@ def steady_state(yard, given):
 def steady_lot(yard, given):
     pits = given[0]
     check_limits(pits, MOST_PITS)
-    return with_fractions(0, [steady_strengths(yard.line, pits)[-1]])
+    return with_fractions(0, [steady_lot_strength(yard.line, pits)])
 
 
 def steady_discharge(yard, given):
     pits = given[0]
     check_limits(pits, MOST_PITS)
-    return with_fractions(0, [steady_strengths(yard.line, pits)[0]])
+    return with_fractions(0, [steady_discharge_strength(yard.line, pits)])
+
+
+def portions_lot(yard, given):
+    portions = given[0]
+    check_limits(portions, MOST_PITS)
+    return with_fractions(0, [lot_after_portions(yard.line, portions)])
+
+
+def deviation(yard, given):
+    return with_fractions(0, [deviation_from_steady(yard.line)])
+
+
+def balance(yard, given):
+    line = yard.line
+    return with_fractions(line.days, [line.supplied, line.tanned, line.discharged, line.pits_content()])
+
+
+def pits_needed(yard, given):
+    required = strength_given(given[0], given[1])
+    for pits in range(1, MOST_PITS + 1):
+        if at_least(steady_lot_strength(yard.line, pits), required):
+            return [pits]
+    raise StrengthNotReached()
+
+
+def days_needed(yard, given):
+    required = strength_given(given[0], given[1])
+    strengths = yard.line.strengths
+    for count in range(MOST_DAYS + 1):
+        if at_least(strengths[-1], required):
+            return [count]
+        strengths = yard.line.strengths_after_day(strengths)
+    raise StrengthNotReached()
+
+
+def preview_days(yard, given):
+    count = given[0]
+    check_limits(count, MOST_DAYS)
+    return strengths_answer(yard.line.strengths_after_days(count))
+
+
+def add_pit(yard, given):
+    line = yard.line
+    if len(line.strengths) == MOST_PITS:
+        raise LineAtLimit()
+    line.put_pit_behind()
+    return [len(line.strengths)]
+
+
+def remove_pit(yard, given):
+    line = yard.line
+    pit = given[0]
+    check_pit(line, pit)
+    if len(line.strengths) == 1:
+        raise OnlyPit()
+    line.take_pit_out(pit)
+    return [len(line.strengths)]
+
+
+def countercurrent_gain(yard, given):
+    line = yard.line
+    pits = given[0]
+    check_limits(pits, MOST_PITS)
+    return with_fractions(0, [minus(steady_lot_strength(line, pits), lot_after_portions(line, pits))])
+
+
+def status(yard, given):
+    line = yard.line
+    return [len(line.strengths), line.liquor, line.lot] + numbers_of([line.fresh, line.raw])
 
 
 # Each call's number, with what performs it and how many arguments it has.
@@ -129,6 +203,16 @@ CALLS = {
     7: (steady_state, 0),
     8: (steady_lot, 1),
     9: (steady_discharge, 1),
+    10: (portions_lot, 1),
+    11: (deviation, 0),
+    12: (balance, 0),
+    13: (pits_needed, 2),
+    14: (days_needed, 2),
+    15: (preview_days, 1),
+    16: (add_pit, 0),
+    17: (remove_pit, 1),
+    18: (countercurrent_gain, 1),
+    19: (status, 0),
 }
 
 

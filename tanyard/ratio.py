@@ -25,6 +25,30 @@ def minus(first, second):
     return plus(first, (-second[0], second[1]))
 
 
+def at_least(first, second):
+    return first[0] * second[1] >= second[0] * first[1]
+
+
+def distance(first, second):
+    between = minus(first, second)
+    return (abs(between[0]), between[1])
+
+
+def greatest(fractions):
+    found = fractions[0]
+    for fraction in fractions:
+        if at_least(fraction, found):
+            found = fraction
+    return found
+
+
+def total(fractions):
+    found = (0, 1)
+    for fraction in fractions:
+        found = plus(found, fraction)
+    return found
+
+
 def times(amount, strength):
     return lowest(amount * strength[0], strength[1])
 

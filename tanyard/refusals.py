@@ -25,3 +25,13 @@ class ArgumentOutsideLimits(Refusal):
 class LineAtLimit(Refusal):
     def __init__(self):
         Refusal.__init__(self, -28)
+
+
+class StrengthNotReached(Refusal):
+    def __init__(self):
+        Refusal.__init__(self, -33)
+
+
+class OnlyPit(Refusal):
+    def __init__(self):
+        Refusal.__init__(self, -33)

@@ -1,6 +1,6 @@
 """The steady state: the strengths of pits that a day doesn't change."""
 
-from tanyard.ratio import mixed
+from tanyard.ratio import distance, greatest, mixed
 
 
 def step_weights(pits, liquor, lot):
@@ -22,3 +22,16 @@ def steady_strengths(line, pits):
         left = sum(weights[pit + 1:])
         strengths.append(mixed(passed, line.fresh, left, line.raw))
     return strengths
+
+
+def steady_lot_strength(line, pits):
+    return steady_strengths(line, pits)[-1]
+
+
+def steady_discharge_strength(line, pits):
+    return steady_strengths(line, pits)[0]
+
+
+def deviation_from_steady(line):
+    steady = steady_strengths(line, len(line.strengths))
+    return greatest([distance(strength, goal) for strength, goal in zip(line.strengths, steady)])

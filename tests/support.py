@@ -1,5 +1,6 @@
 """What the tests share: the calls by name, a request asked in pieces, and a model to compare with."""
 
+from copy import copy
 from fractions import Fraction
 
 from tanyard.pitline import answers
@@ -45,6 +46,46 @@ def steady_lot(pits):
 
 def steady_discharge(pits):
     return [9, pits]
+
+
+def portions_lot(portions):
+    return [10, portions]
+
+
+def deviation():
+    return [11]
+
+
+def balance():
+    return [12]
+
+
+def pits_needed(num, den):
+    return [13, num, den]
+
+
+def days_needed(num, den):
+    return [14, num, den]
+
+
+def preview_days(count):
+    return [15, count]
+
+
+def add_pit():
+    return [16]
+
+
+def remove_pit(pit):
+    return [17, pit]
+
+
+def countercurrent_gain(pits):
+    return [18, pits]
+
+
+def status():
+    return [19]
 
 
 def apart(laid):
@@ -110,6 +151,9 @@ class Model:
         lots = list(self.pits)
         liquors = list(self.pits)
         left = [lots.pop(), liquors.pop(0)]
+        self.supplied += self.liquor * self.fresh + self.lot * self.raw
+        self.tanned += self.lot * left[0]
+        self.discharged += self.liquor * left[1]
         lots.insert(0, self.raw)
         liquors.append(self.fresh)
         total = self.liquor + self.lot
@@ -134,6 +178,21 @@ class Model:
             rows.append(row)
         return solved(rows)
 
+    def portions(self, count):
+        portion = Fraction(self.liquor, count)
+        strength = self.raw
+        for k in range(count):
+            strength = (portion * self.fresh + self.lot * strength) / (portion + self.lot)
+        return strength
+
+    def ahead(self, count):
+        """The line as it would be after some days, on a model of its own."""
+        later = copy(self)
+        later.pits = list(self.pits)
+        for day in range(count):
+            later.day()
+        return later
+
     def answer(self, call):
         number, given = call[0], call[1:]
         if number == 0:
@@ -141,7 +200,10 @@ class Model:
         if self.pits is None:
             return [-11]
         steps = {1: self.set_fresh, 2: self.set_raw, 3: self.set_strength, 4: self.run_day, 5: self.run_days,
-                 6: self.get_strengths, 7: self.steady_state, 8: self.steady_lot, 9: self.steady_discharge}
+                 6: self.get_strengths, 7: self.steady_state, 8: self.steady_lot, 9: self.steady_discharge,
+                 10: self.portions_lot, 11: self.deviation, 12: self.balance, 13: self.pits_needed,
+                 14: self.days_needed, 15: self.preview_days, 16: self.add_pit, 17: self.remove_pit,
+                 18: self.countercurrent_gain, 19: self.status}
         return steps[number](*given)
 
     def create(self, pit_count, liquor, lot):
@@ -150,6 +212,7 @@ class Model:
         self.pits = [Fraction(0)] * pit_count
         self.liquor, self.lot, self.days = liquor, lot, 0
         self.fresh, self.raw = Fraction(1), Fraction(0)
+        self.supplied = self.tanned = self.discharged = Fraction(0)
         return [0]
 
     def set_fresh(self, num, den):
@@ -170,6 +233,7 @@ class Model:
         if num > 100 or not 1 <= den <= 100:
             return [-22]
         old, self.pits[pit] = self.pits[pit], Fraction(num, den)
+        self.supplied += (self.liquor + self.lot) * (self.pits[pit] - old)
         return flat(0, [old])
 
     def run_day(self):
@@ -195,6 +259,53 @@ class Model:
 
     def steady_discharge(self, pits):
         return flat(0, self.steady(pits)[:1]) if 1 <= pits <= 6 else [-22]
+
+    def portions_lot(self, portions):
+        return flat(0, [self.portions(portions)]) if 1 <= portions <= 6 else [-22]
+
+    def deviation(self):
+        return flat(0, [max(abs(a - b) for a, b in zip(self.pits, self.steady(len(self.pits))))])
+
+    def balance(self):
+        content = (self.liquor + self.lot) * sum(self.pits)
+        return flat(self.days, [self.supplied, self.tanned, self.discharged, content])
+
+    def pits_needed(self, num, den):
+        if num > 100 or not 1 <= den <= 100:
+            return [-22]
+        enough = [pits for pits in range(1, 7) if self.steady(pits)[-1] >= Fraction(num, den)]
+        return enough[:1] or [-33]
+
+    def days_needed(self, num, den):
+        if num > 100 or not 1 <= den <= 100:
+            return [-22]
+        enough = [count for count in range(25) if self.ahead(count).pits[-1] >= Fraction(num, den)]
+        return enough[:1] or [-33]
+
+    def preview_days(self, count):
+        return self.ahead(count).get_strengths() if 1 <= count <= 24 else [-22]
+
+    def add_pit(self):
+        if len(self.pits) == 6:
+            return [-28]
+        self.pits.append(Fraction(0))
+        return [len(self.pits)]
+
+    def remove_pit(self, pit):
+        if pit >= len(self.pits):
+            return [-2]
+        if len(self.pits) == 1:
+            return [-33]
+        strength = self.pits.pop(pit)
+        self.tanned += self.lot * strength
+        self.discharged += self.liquor * strength
+        return [len(self.pits)]
+
+    def countercurrent_gain(self, pits):
+        return flat(0, [self.steady(pits)[-1] - self.portions(pits)]) if 1 <= pits <= 6 else [-22]
+
+    def status(self):
+        return [len(self.pits), self.liquor, self.lot] + flat(0, [self.fresh, self.raw])[1:]
 
 
 def modelled(*calls):

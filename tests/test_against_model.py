@@ -13,11 +13,14 @@ DENS = [1, 2, 10, 83, 99, 100] * 3 + [0, 101, LARGEST]
 PIT = [0, 1, 2, 3, 4, 5] * 3 + [6, LARGEST]
 COUNTS = [1, 2, 3, 4, 5, 23, 24] * 3 + [0, 25, LARGEST]
 ARGUMENTS = {0: (PITS, AMOUNTS, AMOUNTS), 1: (NUMS, DENS), 2: (NUMS, DENS), 3: (PIT, NUMS, DENS), 4: (), 5: (COUNTS,),
-             6: (), 7: (), 8: (PITS,), 9: (PITS,)}
+             6: (), 7: (), 8: (PITS,), 9: (PITS,), 10: (PITS,), 11: (), 12: (), 13: (NUMS, DENS), 14: (NUMS, DENS),
+             15: (COUNTS,), 16: (), 17: (PIT,), 18: (PITS,), 19: ()}
+# Calls that change the line come more often, so that the others find lines of many kinds.
+NUMBERS = list(range(20)) + [3] * 4 + [4] * 5 + [16] * 4 + [17] * 2
 
 
 def drawn(chance):
-    number = chance.choice([0, 1, 2, 3, 3, 3, 4, 4, 4, 4, 5, 6, 7, 8, 9])
+    number = chance.choice(NUMBERS)
     return [number] + [chance.choice(values) for values in ARGUMENTS[number]]
 
 
